@@ -2,7 +2,7 @@ package recs
 
 import (
 	"headrace/api"
-	"headrace/datum"
+	"headrace/pack"
 	"headrace/wire"
 )
 
@@ -36,9 +36,9 @@ func Decode(b []byte) (r api.Rec, e api.Errno) {
 	if len(b) > api.MaxRecord {
 		panic(unreadable{})
 	}
-	s := source{wire.NewReader(b)}
-	r = s.record()
-	s.end()
+	s := sourceOf(wire.NewReader(b))
+	r = record(s)
+	s.End()
 	if May(r) != api.OK {
 		panic(unreadable{})
 	}
@@ -52,112 +52,50 @@ func GetState(r *wire.Reader) (s api.State) {
 			s = api.State{}
 		}
 	}()
-	return source{r}.state()
+	return state(sourceOf(r))
 }
 
-// source reads from a Reader, and gives up as soon as that has a fault.
-type source struct {
-	reader *wire.Reader
+func sourceOf(r *wire.Reader) pack.Source {
+	return pack.Source{Reader: r, Sign: unreadable{}}
 }
 
-// sure returns what was read, if the Reader has no fault.
-func sure[T any](s source, x T) T {
-	if e, _ := s.reader.Fault(); e != api.OK {
-		panic(unreadable{})
-	}
-	return x
-}
-
-// end gives up if bytes are left.
-func (s source) end() {
-	if s.reader.Left() > 0 {
-		panic(unreadable{})
-	}
-}
-
-func (s source) number() int {
-	return sure(s, s.reader.Int())
-}
-
-func (s source) flag() bool {
-	return sure(s, s.reader.Flag())
-}
-
-func (s source) float() float64 {
-	return sure(s, s.reader.Float())
-}
-
-func (s source) text() string {
-	return sure(s, s.reader.Text(api.MaxRecord))
-}
-
-func (s source) value() api.Value {
-	return sure(s, datum.Get(s.reader))
-}
-
-// count reads the number of the elements of a list, each of which takes a byte or more.
-func (s source) count() int {
-	return sure(s, s.reader.Count(s.reader.Left()))
-}
-
-// list reads a list, each element by its own way. Room for it is made as elements are read: what the count says may not
-// be there.
-func list[T any](s source, one func(source) T) []T {
-	var l []T
-	for range s.count() {
-		l = append(l, one(s))
-	}
-	return l
-}
-
-func (s source) record() api.Rec {
-	r := api.Rec{Kind: s.number()}
+func record(s pack.Source) api.Rec {
+	r := api.Rec{Kind: s.Number()}
 	for _, f := range named(r.Kind) {
-		s.get(&r, f)
+		get(s, &r, f)
 	}
 	return r
 }
 
 // The fields of a literal are read in the order in which they stand there.
 
-func (s source) txn() api.Txn {
-	return api.Txn{Coord: s.number(), Life: s.number(), Seq: s.number()}
+func pair(s pack.Source) api.Pair {
+	return api.Pair(s.Write())
 }
 
-func (s source) stamp() api.Stamp {
-	return api.Stamp{Wall: s.number(), Logical: s.number(), Node: s.number()}
+func version(s pack.Source) api.Version {
+	return api.Version{Stamp: s.Stamp(), Value: s.Value()}
 }
 
-func (s source) write() api.Write {
-	return api.Write{Key: s.text(), Value: s.value()}
+func history(s pack.Source) api.History {
+	return api.History{Key: s.Text(), Versions: pack.List(s, version)}
 }
 
-func (s source) pair() api.Pair {
-	return api.Pair(s.write())
+func pending(s pack.Source) api.Pending {
+	return api.Pending{
+		Txn:    s.Txn(),
+		Stamp:  s.Stamp(),
+		Reads:  pack.List(s, pack.Source.Text),
+		Writes: pack.List(s, pack.Source.Write),
+	}
 }
 
-func (s source) version() api.Version {
-	return api.Version{Stamp: s.stamp(), Value: s.value()}
-}
-
-func (s source) history() api.History {
-	return api.History{Key: s.text(), Versions: list(s, source.version)}
-}
-
-func (s source) pending() api.Pending {
-	return api.Pending{Txn: s.txn(), Stamp: s.stamp(), Reads: list(s, source.text), Writes: list(s, source.write)}
-}
-
-func (s source) span() api.Range {
-	return api.Range{ID: s.number(), Epoch: s.number(), Lo: s.float(), Hi: s.float()}
-}
-
-func (s source) state() api.State {
+func state(s pack.Source) api.State {
 	return api.State{
-		Range:     s.span(),
-		Floor:     s.stamp(),
-		Closed:    s.stamp(),
-		Histories: list(s, source.history),
-		Pending:   list(s, source.pending),
+		Range:     s.Range(),
+		Floor:     s.Stamp(),
+		Closed:    s.Stamp(),
+		Histories: pack.List(s, history),
+		Pending:   pack.List(s, pending),
 	}
 }

@@ -3,6 +3,7 @@ package recs
 import (
 	"headrace/api"
 	"headrace/datum"
+	"headrace/pack"
 	"headrace/wire"
 )
 
@@ -25,58 +26,30 @@ func Encode(r api.Rec) ([]byte, api.Errno) {
 
 // PutState writes s, valid or not.
 func PutState(w *wire.Writer, s api.State) {
-	w.Int(s.Range.ID)
-	w.Int(s.Range.Epoch)
-	w.Float(s.Range.Lo)
-	w.Float(s.Range.Hi)
-	putStamp(w, s.Floor)
-	putStamp(w, s.Closed)
-	putList(w, s.Histories, putHistory)
-	putList(w, s.Pending, putPending)
-}
-
-// putList writes the number of the elements of l, and each by its own way.
-func putList[T any](w *wire.Writer, l []T, put func(*wire.Writer, T)) {
-	w.Int(len(l))
-	for _, one := range l {
-		put(w, one)
-	}
-}
-
-func putTxn(w *wire.Writer, t api.Txn) {
-	w.Int(t.Coord)
-	w.Int(t.Life)
-	w.Int(t.Seq)
-}
-
-func putStamp(w *wire.Writer, s api.Stamp) {
-	w.Int(s.Wall)
-	w.Int(s.Logical)
-	w.Int(s.Node)
-}
-
-func putWrite(w *wire.Writer, one api.Write) {
-	w.Text(one.Key)
-	datum.Put(w, one.Value)
+	pack.PutRange(w, s.Range)
+	pack.PutStamp(w, s.Floor)
+	pack.PutStamp(w, s.Closed)
+	pack.PutList(w, s.Histories, putHistory)
+	pack.PutList(w, s.Pending, putPending)
 }
 
 func putPair(w *wire.Writer, p api.Pair) {
-	putWrite(w, api.Write(p))
+	pack.PutWrite(w, api.Write(p))
 }
 
 func putVersion(w *wire.Writer, v api.Version) {
-	putStamp(w, v.Stamp)
+	pack.PutStamp(w, v.Stamp)
 	datum.Put(w, v.Value)
 }
 
 func putHistory(w *wire.Writer, h api.History) {
 	w.Text(h.Key)
-	putList(w, h.Versions, putVersion)
+	pack.PutList(w, h.Versions, putVersion)
 }
 
 func putPending(w *wire.Writer, p api.Pending) {
-	putTxn(w, p.Txn)
-	putStamp(w, p.Stamp)
-	putList(w, p.Reads, (*wire.Writer).Text)
-	putList(w, p.Writes, putWrite)
+	pack.PutTxn(w, p.Txn)
+	pack.PutStamp(w, p.Stamp)
+	pack.PutList(w, p.Reads, (*wire.Writer).Text)
+	pack.PutList(w, p.Writes, pack.PutWrite)
 }

@@ -2,6 +2,7 @@ package recs
 
 import (
 	"headrace/api"
+	"headrace/pack"
 	"headrace/wire"
 )
 
@@ -84,11 +85,11 @@ func isZero(r api.Rec, f field) bool {
 func put(w *wire.Writer, r api.Rec, f field) {
 	switch f {
 	case fieldTxn:
-		putTxn(w, r.Txn)
+		pack.PutTxn(w, r.Txn)
 	case fieldStamp:
-		putStamp(w, r.Stamp)
+		pack.PutStamp(w, r.Stamp)
 	case fieldPrev:
-		putStamp(w, r.Prev)
+		pack.PutStamp(w, r.Prev)
 	case fieldCommit:
 		w.Flag(r.Commit)
 	case fieldN:
@@ -96,42 +97,42 @@ func put(w *wire.Writer, r api.Rec, f field) {
 	case fieldPoint:
 		w.Float(r.Point)
 	case fieldReads:
-		putList(w, r.Reads, (*wire.Writer).Text)
+		pack.PutList(w, r.Reads, (*wire.Writer).Text)
 	case fieldWrites:
-		putList(w, r.Writes, putWrite)
+		pack.PutList(w, r.Writes, pack.PutWrite)
 	case fieldParts:
-		putList(w, r.Parts, (*wire.Writer).Int)
+		pack.PutList(w, r.Parts, (*wire.Writer).Int)
 	case fieldPairs:
-		putList(w, r.Pairs, putPair)
+		pack.PutList(w, r.Pairs, putPair)
 	case fieldState:
 		PutState(w, r.State)
 	}
 }
 
 // get reads a field of r.
-func (s source) get(r *api.Rec, f field) {
+func get(s pack.Source, r *api.Rec, f field) {
 	switch f {
 	case fieldTxn:
-		r.Txn = s.txn()
+		r.Txn = s.Txn()
 	case fieldStamp:
-		r.Stamp = s.stamp()
+		r.Stamp = s.Stamp()
 	case fieldPrev:
-		r.Prev = s.stamp()
+		r.Prev = s.Stamp()
 	case fieldCommit:
-		r.Commit = s.flag()
+		r.Commit = s.Flag()
 	case fieldN:
-		r.N = s.number()
+		r.N = s.Number()
 	case fieldPoint:
-		r.Point = s.float()
+		r.Point = s.Float()
 	case fieldReads:
-		r.Reads = list(s, source.text)
+		r.Reads = pack.List(s, pack.Source.Text)
 	case fieldWrites:
-		r.Writes = list(s, source.write)
+		r.Writes = pack.List(s, pack.Source.Write)
 	case fieldParts:
-		r.Parts = list(s, source.number)
+		r.Parts = pack.List(s, pack.Source.Number)
 	case fieldPairs:
-		r.Pairs = list(s, source.pair)
+		r.Pairs = pack.List(s, pair)
 	case fieldState:
-		r.State = s.state()
+		r.State = state(s)
 	}
 }
